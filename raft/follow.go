@@ -14,13 +14,8 @@ func (x *Core) heed(term int) {
 	x.rest()
 }
 
-// rest lets a core neither lead nor stand. The clock of one that led has not gone on meanwhile.
-func (x *Core) rest() {
-	if x.role == api.Leader {
-		x.wait.Reset(x.draw)
-	}
-	x.role, x.votes = api.Follower, nil
-}
+// rest lets a core neither lead nor stand.
+func (x *Core) rest() { x.role, x.votes = api.Follower, nil }
 
 // yield gives way to whoever leads this term.
 func (x *Core) yield(term int) {
@@ -67,7 +62,7 @@ func (x *Core) verdict(m api.Msg) int {
 	last := x.log.Last()
 	alike := m.Index == last && m.Last == x.log.Term(last)
 	switch {
-	case !x.log.Newer(m.Index, m.Last):
+	case !x.log.Newer(m.Index, m.Last), x.role == api.Leader:
 		return beaten
 	case alike && x.role == api.Candidate && x.id < m.From: // one of the two must wait
 		return beaten

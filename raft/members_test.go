@@ -220,6 +220,78 @@ func TestBecomesMember(t *testing.T) {
 	g.checkMembers(0, 1, 3)
 }
 
+// P1204: a core is a member by a KConf that is not committed, too: it stands, by both lists.
+func TestMemberByWhatIsNotCommitted(t *testing.T) {
+	x := newCore(t, 3, 0, 0)
+	l := []api.Entry{{Kind: api.KConf, Client: 1, Seq: 1, Members: list(3)}}
+	x.Step(api.Msg{From: 0, To: 3, Kind: entries, Term: 1, Terms: list(1), Entries: l})
+	stands(t, x, 0)
+	if x.Role() != api.Candidate {
+		t.Fatalf("P1204: with the newer list alone: role %d", x.Role())
+	}
+	x.Step(api.Msg{From: 0, To: 3, Kind: vote, Term: 2, Yes: true})
+	if x.Role() != api.Leader {
+		t.Errorf("P1204: with both lists: role %d", x.Role())
+	}
+}
+
+// P1204: one that begins to lead where a change is committed, but not at its end, adds the KDone.
+func TestEndsChangeOfAnother(t *testing.T) {
+	x := newCore(t, 1, 0, 0, 1)
+	l := []api.Entry{{Kind: api.KConf, Client: 1, Seq: 1, Members: list(1, 2)}, {}}
+	x.Step(api.Msg{From: 0, To: 1, Kind: entries, Term: 2, Commit: 1, Terms: list(1, 2), Entries: l})
+	stands(t, x, 0)
+	for _, id := range list(0, 2) {
+		x.Step(api.Msg{From: id, To: 1, Kind: vote, Term: x.Term(), Yes: true})
+	}
+	if e := entryOf(x, 3); !wire.SameEntry(e, api.Entry{Kind: api.KDone, Members: list(1, 2)}) || lastOf(x, 0) != 3 {
+		t.Errorf("P1204: at 3: %+v", e)
+	}
+}
+
+// P1203, P1204: a change whose KDone has no room stays joint, and busy.
+func TestNoRoomForDone(t *testing.T) {
+	x := newCore(t, 0, 0, 0)
+	terms, l := make([]int, 63), make([]api.Entry, 63)
+	for i := range terms {
+		terms[i] = 1
+	}
+	l[62] = api.Entry{Kind: api.KConf, Client: 1, Seq: 1, Members: list(0, 1)}
+	x.Step(api.Msg{From: 1, To: 0, Kind: entries, Term: 1, Terms: terms, Entries: l})
+	ledBy(t, x, 1)
+	takes(x, 1, x.Term(), 64)
+	if x.Commit() != 64 || !conf.Joint(x.Config()) || x.Role() != api.Leader {
+		t.Fatalf("commit %d, %v, role %d", x.Commit(), x.Config(), x.Role())
+	}
+	for _, e := range []api.Entry{{Kind: api.KConf, Client: 1, Seq: 2, Members: list(0, 1)}, {Kind: api.KMigrate, Client: 1, Seq: 2, To: 1}} {
+		if _, errno := x.Propose(e); errno != api.ErrBusy {
+			t.Errorf("P1203: Propose(%+v): %v", e, errno)
+		}
+	}
+	checkLoaded(t, "no room", x, 0)
+}
+
+// P1204, P1206: when a Leader that is left out gets that committed, all others that are left out hear of it, and do not stand.
+func TestAllLeftOutHear(t *testing.T) {
+	g := newGroup(t, 9, 0, 0, 1, 2, 3, 6, 7, 8)
+	g.leads(0)
+	g.must(0, g.change(4))
+	g.flow()
+	terms := slices.Clone(g.terms)
+	for id := range g.cores {
+		for range 40 {
+			if id != 4 {
+				g.tick(id, 0)
+			}
+		}
+	}
+	if !slices.Equal(g.terms, terms) {
+		t.Errorf("P1204: the terms were %v, now %v", terms, g.terms)
+	}
+	g.calm()
+	g.checkMembers(4)
+}
+
 // alone is a core 0 whose log alone has the KDone that leaves it out: its members were it, and 1 is to be the one. It has not got it committed.
 func alone(t *testing.T) *group {
 	t.Helper()
@@ -333,6 +405,14 @@ func TestSealOfElderTerm(t *testing.T) {
 	for id, x := range g.cores {
 		if !x.Sealed() || x.Commit() != index || lastOf(x, 0) != index {
 			t.Errorf("P1204: core %d: sealed %v, commit %d, the log up to %d", id, x.Sealed(), x.Commit(), lastOf(x, 0))
+		}
+	}
+	last := g.cores[0].log.Last()
+	for id := range g.cores { // no filler comes behind a seal that is known
+		g.leads(id)
+		g.flow()
+		if now := g.cores[id].log.Last(); now != last {
+			t.Errorf("core %d: the log goes up to %d, not %d", id, now, last)
 		}
 	}
 }

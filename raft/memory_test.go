@@ -161,9 +161,7 @@ func telling(t *testing.T) (*Core, []api.Msg) {
 	t.Helper()
 	x := newCore(t, 1, 0, 0, 1, 2)
 	x.Step(roomyMsg())
-	for x.Role() != api.Candidate {
-		x.Tick(0)
-	}
+	stands(t, x, 0)
 	for _, id := range list(0, 2, 3) {
 		x.Step(api.Msg{From: id, To: 1, Kind: vote, Term: x.Term(), Yes: true})
 	}

@@ -110,9 +110,8 @@ func TestRightEntries(t *testing.T) {
 func TestNotLeader(t *testing.T) {
 	g := newGroup(t, 4, 60, 0, 1, 2)
 	g.lost = func(m api.Msg) bool { return true }
-	for g.cores[1].Role() != api.Candidate {
-		g.tick(1, 0)
-	}
+	stands(t, g.cores[1], 0)
+	g.settle(1)
 	for id := range 4 {
 		checkRefused(t, "nobody leads", g, id, g.data(), api.ErrLeader)
 		checkRefused(t, "nobody leads", g, id, g.change(0, 1, 2), api.ErrLeader)

@@ -21,6 +21,20 @@ func upTo(count int) []int {
 	return out
 }
 
+// stands lets ticks go by till a core stands, once more if it did; it tells how many.
+func stands(t *testing.T, x *Core, draw int) int {
+	t.Helper()
+	term := x.Term()
+	for ticks := 1; ticks <= 20; ticks++ {
+		x.Tick(draw)
+		if x.Term() > term {
+			return ticks
+		}
+	}
+	t.Fatalf("core %d does not stand", x.id)
+	return 0
+}
+
 // P1201: New's errors, in their order, and its bounds.
 func TestNew(t *testing.T) {
 	for _, c := range []struct {
@@ -111,11 +125,7 @@ func TestOneMember(t *testing.T) {
 func TestStands(t *testing.T) {
 	x := newCore(t, 1, 0, 0, 1, 2)
 	for want := 1; want <= 3; want++ {
-		ticks := 0
-		for x.Term() < want {
-			x.Tick(4)
-			ticks++
-		}
+		ticks := stands(t, x, 4)
 		if x.Role() != api.Candidate || x.Term() != want || ticks < 10 || ticks > 19 {
 			t.Fatalf("role %d, term %d behind %d ticks", x.Role(), x.Term(), ticks)
 		}
@@ -183,6 +193,28 @@ func TestAnotherLeads(t *testing.T) {
 	}
 	if id := g.calm(); id == first || g.cores[first].Commit() < index {
 		t.Errorf("%d leads; core %d: commit %d", id, first, g.cores[first].Commit())
+	}
+}
+
+// P1206: one that was cut off, and comes back with a bid of an elder term, does not end the term of the one that leads.
+func TestComesBack(t *testing.T) {
+	g := newGroup(t, 5, 0, upTo(5)...)
+	g.apart(4)
+	for range 5 {
+		g.load(0)
+		g.leads(0)
+	}
+	g.lost = nil
+	stands(t, g.cores[4], 0)
+	g.settle(4)
+	term := g.cores[0].Term()
+	if g.cores[4].Term() >= term {
+		t.Fatalf("its term is %d, not below %d", g.cores[4].Term(), term)
+	}
+	g.flow()
+	g.rounds(30)
+	if id := g.checkCalm(); id != 0 || g.cores[0].Term() != term {
+		t.Errorf("P1206: %d leads the term %d, not 0 the term %d", id, g.cores[id].Term(), term)
 	}
 }
 

@@ -188,13 +188,9 @@ func TestLoadNonsense(t *testing.T) {
 // P1201, P1205: a Candidate and a Leader that are loaded are Followers, of the same term, and vote for no other one in it; no more does one that voted.
 func TestLoadVote(t *testing.T) {
 	stood := newCore(t, 0, 0, 0, 1, 2)
-	for stood.Role() != api.Candidate {
-		stood.Tick(0)
-	}
+	stands(t, stood, 0)
 	led, _ := Load(0, stood.Save())
-	for led.Role() != api.Candidate {
-		led.Tick(0)
-	}
+	stands(t, led, 0)
 	led.Step(api.Msg{From: 2, To: 0, Kind: vote, Term: led.Term(), Yes: true})
 	if led.Role() != api.Leader {
 		t.Fatalf("two of three votes: role %d", led.Role())

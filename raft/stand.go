@@ -9,7 +9,7 @@ import (
 const (
 	open   = iota
 	spoilt // by a vote that went elsewhere, or a newer term: it stands again at the next tick
-	beaten // by a better log: it stands again when its clock says so, lest two spoil each other's bids for good
+	beaten // by a better log, or one that leads: it waits for its clock, lest two spoil each other's bids for good
 )
 
 // stand begins a term, and asks everybody for a vote.
@@ -26,16 +26,18 @@ func (x *Core) stand() {
 	x.count()
 }
 
-// poll takes a vote of this term.
+// poll takes a vote of this term. One that a newer term made a Follower hears, too, how its bid went: if it was beaten, it does not stand at the next tick.
 func (x *Core) poll(m api.Msg) {
-	if x.role != api.Candidate || m.Term != x.term {
+	if m.Term != x.term {
 		return
 	}
-	if !m.Yes {
+	if !m.Yes && (x.role == api.Candidate || x.bid == spoilt) {
 		x.bid = max(x.bid, m.Index)
 	}
-	x.votes.Add(m.From, m.Yes)
-	x.count()
+	if x.role == api.Candidate {
+		x.votes.Add(m.From, m.Yes)
+		x.count()
+	}
 }
 
 func (x *Core) count() {

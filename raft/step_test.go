@@ -45,8 +45,8 @@ func three(t *testing.T) map[string]*Core {
 	out := map[string]*Core{}
 	for role, what := range []string{"a Follower", "a Candidate", "a Leader"} {
 		x := newCore(t, 1, 0, 0, 1, 2)
-		for x.Term() < 1 && role > 0 {
-			x.Tick(0)
+		if role > 0 {
+			stands(t, x, 0)
 		}
 		if role == api.Leader {
 			x.Step(api.Msg{From: 2, To: 1, Kind: vote, Term: 1, Yes: true})
@@ -84,7 +84,7 @@ func TestPassedOver(t *testing.T) {
 // P1202: a message of an elder term changes nothing; one that wants an answer is told the newer term.
 func TestElderTerm(t *testing.T) {
 	for what, x := range three(t) {
-		x.Step(api.Msg{From: 2, To: 1, Kind: ask, Term: 5, Index: 60, Last: 4})
+		x.Step(api.Msg{From: 2, To: 1, Kind: vote, Term: 5})
 		x.Out()
 		was := x.Save()
 		for kind := ask; kind <= taken; kind++ {
@@ -138,9 +138,7 @@ func TestVotes(t *testing.T) {
 // P1205: a Candidate leads by votes of a quorum of members, of its term, each counted once; not by others'.
 func TestVotesCounted(t *testing.T) {
 	x := newCore(t, 1, 0, 0, 1, 2, 3, 4)
-	for x.Role() != api.Candidate {
-		x.Tick(0)
-	}
+	stands(t, x, 0)
 	term := x.Term()
 	for _, m := range []api.Msg{
 		{From: 0, Term: term, Yes: true}, {From: 0, Term: term, Yes: true}, // twice
@@ -153,9 +151,7 @@ func TestVotesCounted(t *testing.T) {
 			t.Fatalf("P1205: behind %+v: role %d", m, x.Role())
 		}
 	}
-	for x.Term() == term { // the next one: what was said ahead does not count
-		x.Tick(0)
-	}
+	stands(t, x, 0) // again: what was said ahead does not count
 	x.Step(api.Msg{From: 3, To: 1, Kind: vote, Term: term, Yes: true})
 	x.Step(api.Msg{From: 4, To: 1, Kind: vote, Term: term, Yes: true})
 	x.Step(api.Msg{From: 3, To: 1, Kind: vote, Term: x.Term(), Yes: true})
@@ -228,6 +224,107 @@ func TestElderTermsEntries(t *testing.T) {
 	x.Step(api.Msg{From: 2, To: 0, Kind: taken, Term: x.Term(), Yes: true, Index: 2})
 	if x.Commit() != 2 {
 		t.Errorf("P1205: with one of its own the Leader has committed up to %d", x.Commit())
+	}
+}
+
+// ledBy makes a core 0 lead, by the votes of these; no message is left.
+func ledBy(t *testing.T, x *Core, ids ...int) {
+	t.Helper()
+	stands(t, x, 0)
+	for _, id := range ids {
+		x.Step(api.Msg{From: id, To: 0, Kind: vote, Term: x.Term(), Yes: true})
+	}
+	if x.Role() != api.Leader {
+		t.Fatalf("role %d", x.Role())
+	}
+	x.Out()
+}
+
+// takes tells a Leader that a core has its log up to there.
+func takes(x *Core, id, term, index int) {
+	x.Step(api.Msg{From: id, To: 0, Kind: taken, Term: term, Yes: true, Index: index})
+}
+
+// P1205: a Leader commits what three of five have, itself among them, as they say it in its term; what comes late counts for nothing.
+func TestTaken(t *testing.T) {
+	x := newCore(t, 0, 0, upTo(5)...)
+	ledBy(t, x, 1, 2)
+	for _, e := range letters("abc") {
+		x.Propose(e)
+	}
+	takes(x, 1, 1, 3)
+	takes(x, 1, 1, 1) // late
+	takes(x, 1, 1, 3)
+	takes(x, 1, 1, 2) // late again
+	takes(x, 7, 1, 3) // no member
+	if x.Commit() != 0 {
+		t.Errorf("P1205: two of five have it: commit %d", x.Commit())
+	}
+	takes(x, 2, 1, 2)
+	if x.Commit() != 2 {
+		t.Errorf("P1205: three of five have two: commit %d", x.Commit())
+	}
+	takes(x, 2, 1, 3)
+	if x.Commit() != 3 {
+		t.Errorf("P1205: three of five have all: commit %d", x.Commit())
+	}
+}
+
+// P1205: what a core said in an elder term, and what it said when this one led ahead, counts for nothing: its log may be another one since.
+func TestTakenInElderTerm(t *testing.T) {
+	x := newCore(t, 0, 0, upTo(5)...)
+	ledBy(t, x, 1, 2)
+	x.Propose(letters("a")[0])
+	x.Propose(letters("b")[0])
+	takes(x, 1, 1, 2)
+	x.Step(api.Msg{From: 3, To: 0, Kind: entries, Term: 2, Terms: list(2), Entries: letters("z")})
+	ledBy(t, x, 3, 4)
+	if told(x, 0) != "z" || x.Term() != 3 || lastOf(x, 0) != 2 {
+		t.Fatalf("%q, term %d, the log up to %d", told(x, 0), x.Term(), lastOf(x, 0))
+	}
+	takes(x, 2, 3, 2)
+	for term := 1; term <= 2; term++ {
+		takes(x, 3, term, 2)
+		takes(x, 4, term, 2)
+	}
+	if x.Commit() != 0 {
+		t.Errorf("P1205: two of five have it: commit %d", x.Commit())
+	}
+	takes(x, 4, 3, 2)
+	if x.Commit() != 2 {
+		t.Errorf("P1205: three of five have it: commit %d", x.Commit())
+	}
+}
+
+// P1206: one whose bid was spoilt stands again at the next tick; one that was beaten waits, whatever else it is told.
+func TestBids(t *testing.T) {
+	for what, c := range map[string]struct {
+		told []api.Msg
+		want bool
+	}{
+		"nothing":                      {nil, false},
+		"a vote that is gone":          {[]api.Msg{{From: 1, Kind: vote, Term: 1, Index: spoilt}}, true},
+		"a better log":                 {[]api.Msg{{From: 1, Kind: vote, Term: 1, Index: beaten}}, false},
+		"both":                         {[]api.Msg{{From: 2, Kind: vote, Term: 1, Index: beaten}, {From: 1, Kind: vote, Term: 1, Index: spoilt}}, false},
+		"a newer term":                 {[]api.Msg{{From: 1, Kind: vote, Term: 6, Index: spoilt}}, true},
+		"a newer term, one that leads": {[]api.Msg{{From: 1, Kind: vote, Term: 6, Index: spoilt}, {From: 2, Kind: vote, Term: 6, Index: beaten}}, false},
+		"another one, as good":         {[]api.Msg{{From: 1, Kind: ask, Term: 6}}, false},
+		"another one, elder":           {[]api.Msg{{From: 1, Kind: ask, Term: 6, Last: -1}}, true},
+		"a Leader of the term":         {[]api.Msg{{From: 1, Kind: vote, Term: 1, Index: spoilt}, {From: 1, Kind: entries, Term: 1}}, false},
+		"a Leader of a newer one":      {[]api.Msg{{From: 1, Kind: entries, Term: 6}}, false},
+		"a bid long gone":              {[]api.Msg{{From: 1, Kind: entries, Term: 6}, {From: 1, Kind: vote, Term: 6, Index: spoilt}}, false},
+	} {
+		x := newCore(t, 0, 0, upTo(5)...)
+		stands(t, x, 9)
+		for _, m := range c.told {
+			m.To = 0
+			x.Step(m)
+		}
+		term := x.Term()
+		x.Tick(9)
+		if stands := x.Term() > term; stands != c.want {
+			t.Errorf("told %s: %v", what, stands)
+		}
 	}
 }
 
