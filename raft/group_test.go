@@ -7,6 +7,7 @@ import (
 
 	"synodal/api"
 	"synodal/conf"
+	"synodal/core"
 	"synodal/wire"
 )
 
@@ -111,7 +112,7 @@ func (g *group) settle(id int) {
 // checkSent says that a message is such as the chapter says.
 func checkSent(t *testing.T, id int, m api.Msg) {
 	t.Helper()
-	if _, e := wire.EncodeMsg(m); e != api.OK || m.From != id || m.To == id || !isNode(m.To) || m.Gen != 0 {
+	if _, e := wire.EncodeMsg(m); e != api.OK || m.From != id || m.To == id || !core.IsNode(m.To) || m.Gen != 0 {
 		t.Fatalf("core %d sends %+v: %v", id, m, e)
 	}
 }

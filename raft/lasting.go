@@ -1,20 +1,16 @@
 package raft
 
 import (
-	"bytes"
 	"slices"
 
 	"synodal/api"
 	"synodal/conf"
+	"synodal/core"
 	"synodal/hist"
-	"synodal/wire"
 )
 
 // nobody is whom a core voted for that has not voted.
 const nobody = -1
-
-// savedKind is the kind of the message as which a core is saved; none of that kind is sent.
-const savedKind = 15
 
 // lasting is what a core must not forget. How much is committed others would tell it again; but what was told by it is told for good, a seal above all.
 type lasting struct {
@@ -26,11 +22,10 @@ type lasting struct {
 	log     *hist.Hist
 }
 
-// bytes lays all of it into one message, and that into a frame, by whose sum other bytes are told.
+// bytes lays all of it into one message.
 func (l *lasting) bytes() []byte {
 	terms, list := l.log.From(l.base)
-	b, _ := wire.EncodeMsg(api.Msg{
-		Kind:    savedKind,
+	return core.Pack(api.Msg{
 		Term:    l.term,
 		Index:   l.base,
 		Last:    l.voted,
@@ -39,50 +34,17 @@ func (l *lasting) bytes() []byte {
 		Entries: list,
 		Config:  api.Config{New: l.members},
 	})
-	f, _ := wire.Frame(b)
-	return f
-}
-
-// parse tells what was saved as these bytes.
-func parse(b []byte) (lasting, error) {
-	frames, _, e := wire.Split(b)
-	if e != api.OK {
-		return lasting{}, &flaw{inner: e}
-	}
-	if len(frames) != 1 {
-		return lasting{}, &flaw{inner: api.ErrCut}
-	}
-	m, e := wire.ParseMsg(frames[0])
-	if e != api.OK {
-		return lasting{}, &flaw{inner: e}
-	}
-	l, e := restored(m)
-	if e != api.OK {
-		return lasting{}, &flaw{inner: e}
-	}
-	// Whatever else may be there, in the message or behind the frame, a core would not have saved it.
-	if !bytes.Equal(l.bytes(), b) {
-		return lasting{}, &flaw{inner: api.ErrMore}
-	}
-	return l, nil
 }
 
 // restored takes from a message what was saved as it, if a core may have saved that.
-func restored(m api.Msg) (lasting, api.Errno) {
-	l := lasting{members: m.Config.New, base: m.Index, term: m.Term, voted: m.Last, commit: m.Commit}
-	if l.base < 0 || l.base > api.MaxLog || l.voted != nobody && !isNode(l.voted) {
-		return lasting{}, api.ErrArg
-	}
-	if e := conf.Check(api.Config{New: l.members}); e != api.OK {
-		return lasting{}, e
-	}
-	l.log = hist.New(l.base)
+func restored(m api.Msg) (*lasting, api.Errno) {
+	l := &lasting{members: m.Config.New, base: m.Index, term: m.Term, voted: m.Last, commit: m.Commit, log: hist.New(m.Index)}
 	last, e := l.log.Put(l.base, 0, m.Terms, m.Entries)
 	if e != api.OK {
-		return lasting{}, e
+		return nil, e
 	}
-	if l.commit < l.base || l.commit > last || l.term < l.log.Term(last) {
-		return lasting{}, api.ErrArg
+	if l.voted != nobody && !core.IsNode(l.voted) || l.commit < l.base || l.commit > last || l.term < l.log.Term(last) {
+		return nil, api.ErrArg
 	}
 	return l, api.OK
 }

@@ -2,7 +2,7 @@ package raft
 
 import (
 	"synodal/api"
-	"synodal/wire"
+	"synodal/core"
 )
 
 // The kinds of messages. One that wants an answer has the answer's kind right behind it.
@@ -31,22 +31,5 @@ func (p *post) empty() []api.Msg {
 	return out
 }
 
-// isPost says whether a message is to this core, of another one, and such as may be sent: what it brings may have to be saved.
-func (p *post) isPost(m api.Msg) bool {
-	if m.To != p.id || m.From == p.id || !isNode(m.From) || m.Term < 1 {
-		return false
-	}
-	_, e := wire.EncodeMsg(m)
-	return e == api.OK
-}
-
 // others are all nodes but this one. Who is no member is among them: it may be the last to know, and would stand on and on.
-func (p *post) others() []int {
-	var out []int
-	for id := range api.MaxNodes {
-		if id != p.id {
-			out = append(out, id)
-		}
-	}
-	return out
-}
+func (p *post) others() []int { return core.Others(p.id) }
