@@ -32,11 +32,14 @@ func Others(id int) []int {
 	return out
 }
 
-// IsPost says whether a message is to this core, of another one, and such as may be sent: what it brings may have to be saved.
-func IsPost(m api.Msg, id int) bool {
-	if m.To != id || m.From == id || !IsNode(m.From) || m.Term < 1 {
+// Reaches says whether a message is to this core, of another one, and such as may be sent: what it brings may have to be saved.
+func Reaches(m api.Msg, id int) bool {
+	if m.To != id || m.From == id || !IsNode(m.From) {
 		return false
 	}
 	_, e := wire.EncodeMsg(m)
 	return e == api.OK
 }
+
+// IsPost says whether a message reaches this core, and is of a term.
+func IsPost(m api.Msg, id int) bool { return m.Term >= 1 && Reaches(m, id) }

@@ -55,6 +55,26 @@ func TestIsPost(t *testing.T) {
 	}
 }
 
+// A message reaches a core of whatever term, if it is to that one, of another one, and such as may be sent.
+func TestReaches(t *testing.T) {
+	for _, term := range list(math.MinInt, -1, 0, 1, math.MaxInt) {
+		for _, c := range []struct {
+			m    api.Msg
+			want bool
+		}{
+			{api.Msg{From: 1, To: 2, Kind: 1, Term: term}, true},
+			{api.Msg{From: 1, To: 3, Kind: 1, Term: term}, false},
+			{api.Msg{From: 2, To: 2, Kind: 1, Term: term}, false},
+			{api.Msg{From: 9, To: 2, Kind: 1, Term: term}, false},
+			{api.Msg{From: 1, To: 2, Kind: 16, Term: term}, false},
+		} {
+			if Reaches(c.m, 2) != c.want {
+				t.Errorf("Reaches(%+v): %v", c.m, !c.want)
+			}
+		}
+	}
+}
+
 // What is wrong with an entry is told by what comes first; what its kind has may be there, nothing else.
 func TestUnfit(t *testing.T) {
 	long := strings.Repeat("x", 17)
@@ -208,5 +228,23 @@ func checkFlaw(t *testing.T, what string, id int, b []byte, read func(api.Msg) (
 	t.Helper()
 	if m, err := Restore(id, b, read, packed); Number(err) != api.ErrBad || !wire.SameMsg(m, api.Msg{}) {
 		t.Errorf("%s: Restore: %+v, %v", what, m, err)
+	}
+}
+
+// A twin is the same, and shares no memory with what it is of.
+func TestTwin(t *testing.T) {
+	for _, members := range [][]int{nil, list(), list(1, 2), append(list(1, 2, 3), 4)[:3]} {
+		e := api.Entry{Kind: api.KConf, Client: 1, Seq: 2, Data: "x", Members: members, To: 1}
+		twin := Twin(e)
+		if !wire.SameEntry(twin, e) {
+			t.Fatalf("Twin(%+v): %+v", e, twin)
+		}
+		was := slices.Clone(members)
+		for i := range twin.Members[:cap(twin.Members)] {
+			twin.Members[:cap(twin.Members)][i] = -1
+		}
+		if !slices.Equal(members, was) {
+			t.Errorf("a twin's memory is that of %v", members)
+		}
 	}
 }

@@ -41,3 +41,9 @@ func spare(e api.Entry) bool {
 		len(e.Members) > 0 && e.Kind != api.KConf ||
 		e.To != 0 && e.Kind != api.KMigrate
 }
+
+// Twin is the same entry in memory of its own.
+func Twin(e api.Entry) api.Entry {
+	e.Members = append([]int(nil), e.Members...)
+	return e
+}

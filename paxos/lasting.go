@@ -55,7 +55,7 @@ func (l *lasting) learn(m api.Msg) {
 	for i, e := range m.Entries {
 		index := m.Index + 1 + i
 		if index <= m.Commit && l.fits(index, e) {
-			l.chosen[index] = twin(e)
+			l.chosen[index] = core.Twin(e)
 		}
 	}
 }
@@ -89,9 +89,3 @@ func restored(m api.Msg) (*lasting, api.Errno) {
 
 // pledge promises a ballot, unless a greater one is.
 func (l *lasting) pledge(ballot int) { l.acceptor.Prepare(ballot, l.commit()+1) }
-
-// twin is the same entry in memory of its own.
-func twin(e api.Entry) api.Entry {
-	e.Members = append([]int(nil), e.Members...)
-	return e
-}

@@ -22,7 +22,7 @@ func (l *lasting) report(behind int) api.Msg {
 		return m
 	}
 	for i := behind + 1; i <= m.Commit; i++ {
-		m.Entries = append(m.Entries, twin(l.chosen[i]))
+		m.Entries = append(m.Entries, core.Twin(l.chosen[i]))
 	}
 	if v, ok := l.open(); ok {
 		m.Terms, m.Entries = []int{v.Ballot}, append(m.Entries, v.Entry)
@@ -36,7 +36,7 @@ func voteOf(m api.Msg) (accept.Vote, bool) {
 	if len(m.Terms) != 1 || at < 0 || at >= len(m.Entries) {
 		return accept.Vote{}, false
 	}
-	return accept.Vote{Slot: m.Commit + 1, Ballot: m.Terms[0], Entry: twin(m.Entries[at])}, true
+	return accept.Vote{Slot: m.Commit + 1, Ballot: m.Terms[0], Entry: core.Twin(m.Entries[at])}, true
 }
 
 func (x *Core) send(kind, to, behind int) {
