@@ -17,8 +17,11 @@ func (p *past) bytes() []byte {
 // restore reads what lasts of a core.
 func restore(id int, b []byte) (*past, *instance, error) {
 	frames, _, e := wire.Split(b)
-	if e != api.OK || len(frames) == 0 {
-		return nil, nil, &core.Flaw{Inner: api.ErrCut}
+	if e == api.OK && len(frames) == 0 {
+		e = api.ErrCut
+	}
+	if e != api.OK {
+		return nil, nil, &core.Flaw{Inner: e}
 	}
 	head, _ := wire.Frame(frames[0])
 	p, err := core.Restore(id, b[:len(head)], remembered, (*past).bytes)
